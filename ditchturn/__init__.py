@@ -1,0 +1,1 @@
+"""Ditchturn: water dealt by turns under shares that change."""
