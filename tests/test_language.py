@@ -18,6 +18,12 @@ BARRED = re.compile(
     r"|ABCMeta|namedtuple|NamedTuple|TypedDict|TYPE_CHECKING|abstractmethod)\b"
     r"|dataclass|overload|contextmanager"
 )
+BUILTIN_METHODS = set(
+    "append clear copy count endswith extend find get index insert isalnum isalpha isdigit islower isspace"
+    " isupper items join keys ljust lower lstrip partition pop remove replace reverse rfind rjust rpartition"
+    " rsplit rstrip setdefault split splitlines startswith strip update upper values zfill bit_length"
+    " removeprefix removesuffix".split()
+)
 DUNDERS = re.compile(r"__[a-z]+__")
 
 
@@ -32,6 +38,15 @@ def bound_names(tree):
             yield node.name
         elif isinstance(node, ast.Attribute):
             yield node.attr
+
+
+def defined(tree):
+    """The names that a file itself binds at module level."""
+    for node in tree.body:
+        if isinstance(node, (ast.FunctionDef, ast.ClassDef)):
+            yield node.name
+        elif isinstance(node, ast.Assign):
+            yield from (target.id for target in node.targets)
 
 
 class LanguageTest(unittest.TestCase):
@@ -73,6 +88,53 @@ class LanguageTest(unittest.TestCase):
             self.assertEqual(node.level, 0, name)
             self.assertRegex(node.module, r"\Aditchturn\.[a-z_]+\Z", name)
             self.assertTrue((PACKAGE / (node.module.split(".")[1] + ".py")).is_file(), name)
+
+    def test_no_two_files_import_from_each_other(self):
+        above = {name: set() for name in self.trees}
+        for name, node in self.nodes(ast.ImportFrom):
+            above[name].add(node.module.split(".")[1] + ".py")
+        while above:
+            free = [name for name in above if not above[name] & set(above)]
+            self.assertNotEqual(free, [], above)
+            for name in free:
+                del above[name]
+
+    def test_a_name_is_imported_from_the_file_that_defines_it(self):
+        for name, node in self.nodes(ast.ImportFrom):
+            tree = self.trees[node.module.split(".")[1] + ".py"]
+            for word in node.names:
+                self.assertIsNone(word.asname, name)
+                self.assertIn(word.name, list(defined(tree)), name)
+
+    def test_imported_names_are_used_and_not_bound_again(self):
+        for name, tree in self.trees.items():
+            words = [word.name for node in tree.body if isinstance(node, ast.ImportFrom) for word in node.names]
+            nodes = list(ast.walk(tree))
+            used = {node.id for node in nodes if isinstance(node, ast.Name) and isinstance(node.ctx, ast.Load)}
+            bound = {node.id for node in nodes if isinstance(node, ast.Name) and isinstance(node.ctx, ast.Store)}
+            bound |= {node.arg for node in nodes if isinstance(node, ast.arg)} | set(defined(tree))
+            self.assertEqual(set(words) - used, set(), name)
+            self.assertEqual(set(words) & bound, set(), name)
+            self.assertEqual(len(set(words)), len(words), name)
+
+    def test_no_name_is_both_method_and_attribute(self):
+        methods, kept = set(), set()
+        for name, node in self.nodes(ast.ClassDef):
+            methods |= {row.name for row in node.body if isinstance(row, ast.FunctionDef)}
+        for name, node in self.nodes(ast.Attribute):
+            if isinstance(node.ctx, ast.Store):
+                kept.add(node.attr)
+        self.assertEqual(methods & kept, set())
+        for name, node in self.nodes(ast.Attribute):
+            if isinstance(node.ctx, ast.Load):
+                self.assertIn(node.attr, methods | kept | BUILTIN_METHODS | {"__init__"}, (name, node.lineno))
+
+    def test_tables_hold_functions_of_their_own_file(self):
+        for name, tree in self.trees.items():
+            for node in tree.body:
+                if isinstance(node, ast.Assign):
+                    words = {word.id for word in ast.walk(node.value) if isinstance(word, ast.Name)}
+                    self.assertLessEqual(words, set(defined(tree)), (name, node.lineno))
 
     def test_names(self):
         for name, tree in self.trees.items():
