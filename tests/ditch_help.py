@@ -1,5 +1,6 @@
 """What several tests of the ditch need: a plain second reckoning, and drawn deeds."""
 
+import random
 from fractions import Fraction
 
 from ditchturn.ditch import Ditch
@@ -239,3 +240,16 @@ def drawn_deed(draw, model, strange=0.1):
     if word == "lend":
         deed += (draw.choice([0, 1000, -1]) if draw.random() < strange else draw.choice([1, 1, 2, 3, 9, 999]),)
     return deed
+
+
+def drawn_moments(seed, ditches, steps):
+    """Ditches behind each of their drawn deeds, with their second reckonings."""
+    draw = random.Random(seed)
+    for time in range(ditches):
+        ditch, model = Ditch("ann"), Model("ann")
+        for step in range(steps):
+            deed = drawn_deed(draw, model, strange=0)
+            if model.refusal(deed) is None:
+                ditch.do(deed)
+                model.do(deed)
+                yield ditch, model

@@ -1,11 +1,9 @@
 """Point 15: what comes, if no other deed is done."""
 
-import random
 import unittest
 
-from ditchturn.ditch import Ditch
 from ditchturn.errors import BadMany
-from ditch_help import Model, ditch_of, drawn_deed, redone, told
+from ditch_help import ditch_of, drawn_moments, redone, told
 
 
 def lending_ditch():
@@ -76,18 +74,12 @@ class AheadTest(unittest.TestCase):
             self.assertEqual(ditch.coming(many), ditch.coming(100)[:many])
 
     def test_drawn_ditches(self):
-        draw = random.Random(60)
-        for time in range(12):
-            ditch, model = Ditch("ann"), Model("ann")
-            for step in range(40):
-                deed = drawn_deed(draw, model, strange=0)
-                if model.refusal(deed) is None:
-                    ditch.do(deed)
-                    model.do(deed)
-            rows, names = ditch.shares_ahead(30), ditch.coming(30)
+        for ditch, model in drawn_moments(60, 12, 40):
+            rows, names = ditch.shares_ahead(12), ditch.coming(12)
+            other = ditch.twin()
             for shares, name in zip(rows, names):
-                self.assertEqual([ditch.share(field) for field in ditch.fields()], shares)
-                self.assertEqual(ditch.hour(), name)
+                self.assertEqual([other.share(field) for field in other.fields()], shares)
+                self.assertEqual(other.hour(), name)
 
 
 if __name__ == "__main__":

@@ -1,13 +1,12 @@
 """Points 1 and 10: names, fields in their order, what they own, have free and share; told lists."""
 
 import inspect
-import random
 import unittest
 from fractions import Fraction
 
 from ditchturn.ditch import Ditch
 from ditchturn.errors import BadName, NoField
-from ditch_help import Model, ditch_of, drawn_deed, told
+from ditch_help import ditch_of, drawn_moments, told
 
 WRONG_NAMES = ["", "abcdefghi", "Ann", "aNn", "ann1", "a b", " ann", "ann ", "a\nb", "ann\n", "\n", "a-b", "{", "`", "~"]
 
@@ -101,15 +100,8 @@ class FieldsTest(unittest.TestCase):
                     getattr(ditch, word)(name)
 
     def test_sums_behind_any_deeds(self):
-        draw = random.Random(20)
-        for time in range(25):
-            ditch, model = Ditch("ann"), Model("ann")
-            for step in range(60):
-                deed = drawn_deed(draw, model, strange=0)
-                if model.refusal(deed) is None:
-                    ditch.do(deed)
-                    model.do(deed)
-                self.check_sums(ditch)
+        for ditch, model in drawn_moments(20, 25, 60):
+            self.check_sums(ditch)
 
     def check_sums(self, ditch):
         names = ditch.fields()

@@ -7,7 +7,7 @@ from fractions import Fraction
 from ditchturn.bounds import wait
 from ditchturn.ditch import Ditch
 from ditchturn.lags import keeps
-from ditch_help import Model, ditch_of, drawn_deed, part, parts
+from ditch_help import Model, ditch_of, drawn_deed, drawn_moments, part, parts
 
 
 class GainTest(unittest.TestCase):
@@ -53,28 +53,20 @@ class GainTest(unittest.TestCase):
 
 class BoundsTest(unittest.TestCase):
     def test_drawn_deeds(self):
-        draw = random.Random(41)
-        for time in range(10):
-            ditch, model = Ditch("ann"), Model("ann")
-            for step in range(150):
-                deed = drawn_deed(draw, model, strange=0)
-                if model.refusal(deed) is None:
-                    ditch.do(deed)
-                    model.do(deed)
-                    self.assertTrue(keeps(ditch.lags()), ditch.log())
+        for ditch, model in drawn_moments(41, 10, 150):
+            self.assertTrue(keeps(ditch.lags()), ditch.log())
 
     def test_shares_sold_to_those_most_behind(self):
-        draw = random.Random(42)
         for many in (2, 3, 5, 8, 13, 24):
             ditch = Ditch("a")
             for name in "abcdefghijklmnopqrstuvwx"[1:many]:
                 ditch.settle(name)
                 ditch.sell("a", name, (1, many))
             for hour in range(40):
-                self.sell_to_those_behind(ditch, ditch.hour(), draw)
+                self.sell_to_those_behind(ditch, ditch.hour())
                 self.assertTrue(keeps(ditch.lags()), ditch.log())
 
-    def sell_to_those_behind(self, ditch, giver, draw):
+    def sell_to_those_behind(self, ditch, giver):
         takers = [name for name in ditch.fields() if ditch.lag(name)[0] > 0 and name != giver]
         free = Fraction(*ditch.free(giver))
         if takers and free > 0:
@@ -105,15 +97,8 @@ class WaitTest(unittest.TestCase):
                 self.assertLessEqual(hours, wait(many, part(least)))
 
     def test_drawn_deeds(self):
-        draw = random.Random(43)
-        for time in range(10):
-            ditch, model = Ditch("ann"), Model("ann")
-            for step in range(200):
-                deed = drawn_deed(draw, model, strange=0)
-                if model.refusal(deed) is None:
-                    ditch.do(deed)
-                    model.do(deed)
-                    self.check_waits(ditch, model.hours)
+        for ditch, model in drawn_moments(43, 10, 200):
+            self.check_waits(ditch, model.hours)
 
     def test_small_shares(self):
         for many in range(2, 25):
