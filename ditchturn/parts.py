@@ -90,23 +90,44 @@ def part_text(a):
 
 
 def is_number(text):
-    """True where the text is a whole number from nought up, by figures that can be read."""
-    # The count comes first, so that no text of any length is looked through or reckoned.
-    if text == "" or len(text) > MOST_FIGURES_READ:
+    """True where the text is a whole number from nought up, by figures without a nought ahead."""
+    if text == "":
         return False
     if text[0] == "0":
         return text == "0"
     return all([sign in FIGURES for sign in text])
 
 
-def part_read(text):
-    """The part that a text writes; every other text is refused with BadPart."""
+def number_read(figures):
+    """The whole number from nought up that these figures write."""
+    # Piece by piece, as int refuses texts of more than some thousands of figures.
+    pieces = -(-len(figures) // PIECE_FIGURES)
+    row = figures.zfill(pieces * PIECE_FIGURES)
+    number = 0
+    for at in range(0, len(row), PIECE_FIGURES):
+        number = number * PIECE + int(row[at:at + PIECE_FIGURES])
+    return number
+
+
+def long_part_read(text):
+    """The part that a text writes by numbers of any count of figures; BadPart for every other text."""
     top, slash, bottom = text.partition("/")
-    if not is_number(top.removeprefix("-")) or not is_number(bottom):
+    size = top.removeprefix("-")
+    if not is_number(size) or not is_number(bottom):
         raise BadPart("not two whole numbers with a / between")
     if top == "-0" or bottom == "0":
         raise BadPart("a nought below nought, or at the bottom")
-    part = (int(top), int(bottom))
+    sign = -1 if top != size else 1
+    part = (sign * number_read(size), number_read(bottom))
     if lowest(part[0], part[1]) != part:
         raise BadPart("not in lowest terms")
     return part
+
+
+def part_read(text):
+    """The part that a text writes; every other text is refused with BadPart."""
+    top, slash, bottom = text.partition("/")
+    # Ahead of all else, so that no text of any length is looked through or reckoned.
+    if len(top.removeprefix("-")) > MOST_FIGURES_READ or len(bottom) > MOST_FIGURES_READ:
+        raise BadPart("a number of more than 400 figures")
+    return long_part_read(text)

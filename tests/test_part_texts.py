@@ -6,7 +6,7 @@ import re
 import unittest
 
 from ditchturn.errors import BadPart, DitchError
-from ditchturn.parts import part_read, part_text
+from ditchturn.parts import long_part_read, part_read, part_text
 
 # In lowest terms over each power of ten, two and five, as no nine shares a divisor with them.
 LONGEST = int("9" * 400)
@@ -125,6 +125,27 @@ class ReadingTest(unittest.TestCase):
     def test_long_texts_that_are_no_numbers_are_refused(self):
         for text in ("0" * 5000 + "/1", "1/" + "0" * 5000, "1" * 5000, "/" * 5000, "-" * 5000, "a" * 5000):
             self.assert_refused(text)
+
+
+class LongReadingTest(unittest.TestCase):
+    def test_parts_of_any_count_of_figures(self):
+        for count in (1, 63, 64, 65, 127, 128, 129, 400, 401, 640, 641, 1400, 4000, 4301, 5000):
+            power = 10 ** count
+            for part in ((power - 1, power), (-power, power - 1), (1, power + 1), (power // 10, 1)):
+                self.assertEqual(long_part_read(part_text(part)), part)
+
+    def test_what_is_written_and_refused_shortly(self):
+        for part, text in WRITTEN:
+            self.assertEqual(long_part_read(text), part)
+        for text in REFUSED:
+            with self.assertRaises(BadPart, msg=repr(text)):
+                long_part_read(text)
+
+    def test_long_texts_that_write_no_part(self):
+        nines = "9" * 1400
+        for text in (f"0{nines}/1", f"1/0{nines}", f"3/{nines}", f"{nines}/{nines}", f"0/{nines}", nines, f"1/{nines}x"):
+            with self.assertRaises(BadPart):
+                long_part_read(text)
 
 
 if __name__ == "__main__":
